@@ -1,0 +1,79 @@
+// Package hart: a small computer: see DOC.md.
+package hart
+
+import (
+	"hart/api"
+	"hart/decode"
+	"hart/device"
+)
+
+// Decode takes an instruction apart (P3).
+func Decode(w uint32) api.Instr {
+	return decode.Word(w)
+}
+
+// Hart is a computer.
+type Hart struct {
+	regs   [api.Regs]uint32
+	pc     uint32
+	level  int
+	asleep bool
+	csr    controls
+	ram    []byte
+	clock  device.Clock
+	lines  device.Controller
+}
+
+// New makes a computer with size bytes of memory, the image at their beginning (P4).
+func New(size int, image string) (*Hart, api.Errno) {
+	if size < 4 || size > api.MaxRam || size%4 != 0 {
+		return nil, api.ErrSize
+	}
+	if len(image) > size {
+		return nil, api.ErrImage
+	}
+	m := &Hart{level: api.Machine, ram: make([]byte, size), clock: device.NewClock()}
+	copy(m.ram, image)
+	return m, api.OK
+}
+
+// Look tells all that the computer holds (P5).
+func (m *Hart) Look() api.State {
+	return api.State{
+		Regs:   fresh(m.regs[:]),
+		Pc:     m.pc,
+		Mode:   m.level,
+		Asleep: m.asleep,
+		Csrs:   m.controlWords(),
+		Ram:    string(m.ram),
+		Clock:  []uint32{m.clock.Msip, m.clock.Mtimecmp, m.clock.Mtime},
+		Prio:   fresh(m.lines.Prio[:]),
+		Pend:   m.lines.Pend,
+		Served: m.lines.Served,
+		Level:  m.lines.Level,
+		Enable: fresh(m.lines.Enable[:]),
+		Limit:  fresh(m.lines.Limit[:]),
+	}
+}
+
+// fresh copies l, so that the caller of Look may write into what it gets.
+func fresh(l []uint32) []uint32 {
+	c := make([]uint32, len(l))
+	copy(c, l)
+	return c
+}
+
+// Step does one step (P6 to P16).
+func (m *Hart) Step() {}
+
+// Read reads from outside: width bytes at address a (P13).
+func (m *Hart) Read(a uint32, width int) (uint32, bool) { return 0, false }
+
+// Write writes from outside: the low width bytes of v to address a (P13).
+func (m *Hart) Write(a uint32, width int, v uint32) bool { return false }
+
+// Line turns line s high or low (P14).
+func (m *Hart) Line(s int, high bool) {}
+
+// Tick lets one tick of the clock pass (P14).
+func (m *Hart) Tick() {}
