@@ -63,9 +63,6 @@ func fresh(l []uint32) []uint32 {
 	return c
 }
 
-// Step does one step (P6 to P16).
-func (m *Hart) Step() {}
-
 // Read reads from outside: width bytes at address a (P13).
 func (m *Hart) Read(a uint32, width int) (uint32, bool) { return 0, false }
 
