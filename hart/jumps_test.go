@@ -1,6 +1,10 @@
 package hart
 
-import "testing"
+import (
+	"testing"
+
+	"hart/api"
+)
 
 // goes does one step of which pc becomes target and, if rd is not 0, rd back.
 func goes(t *testing.T, what string, m *Hart, target, rd, back uint32) {
@@ -108,21 +112,30 @@ const odd = 2
 
 // P7: pc never becomes what is no multiple of 4, and Rd stays as it was then.
 func TestTargetsThatAreNoMultiple(t *testing.T) {
-	var all []*Hart
 	for _, imm := range []uint32{odd, 4 + odd, 0xFFFFFFFC + odd, 0xFFFFF000 + odd} {
-		all = append(all, busy(t, 64, 16, wordJ(5, imm)), busy(t, 64, 16, wordJ(0, imm)), busy(t, 64, 16, wordB(0, 1, 1, imm)))
+		for _, w := range []uint32{wordJ(5, imm), wordJ(0, imm), wordB(0, 1, 1, imm)} {
+			traps(t, "P7: no multiple of 4", busy(t, 64, 16, w), api.FetchAlign, sum32(16, imm))
+		}
 	}
 	for _, rs1 := range []uint32{2, 3, 34, 35, 0xFFFFFFFE, 0xFFFFFFFF} {
 		for _, rd := range []uint32{0, 1, 5} {
 			m := busy(t, 64, 16, jalr(rd, 1, 0))
 			m.regs[1] = rs1
-			all = append(all, m)
+			traps(t, "P7: no multiple of 4", m, api.FetchAlign, rs1/2*2)
 		}
 	}
-	for _, m := range all {
-		fails(t, "P7: no multiple of 4", m)
-		if m.pc%4 != 0 {
-			t.Errorf("P7: pc is %#x", m.pc)
+}
+
+// P7: of the branches those alone are exceptions that are taken.
+func TestBranchesToNoMultiple(t *testing.T) {
+	for _, c := range branchTests {
+		for _, r := range [][2]uint32{{1, 1}, {1, 2}, {2, 1}, {0, 1}, {1, 0}} {
+			m := busy(t, 64, 16, wordB(c.f3, r[0], r[1], odd))
+			if c.want(m.regs[r[0]], m.regs[r[1]]) {
+				traps(t, "P7: "+c.name, m, api.FetchAlign, 16+odd)
+			} else {
+				goes(t, "P7: "+c.name, m, 20, 0, 0)
+			}
 		}
 	}
 }

@@ -18,9 +18,9 @@ func fill(m *Hart) {
 	copy(m.ram, "zyxw")
 	m.csr = controls{
 		mstatus: 0x00601922, medeleg: 0x305, mideleg: 0x222, mie: 0xAA8,
-		mtvec: 0x101, mscratch: 0x102, mepc: 0x104, mcause: 0x80000003, mtval: 0x105,
-		stvec: 0x201, sscratch: 0x202, sepc: 0x204, scause: 0x80000005, stval: 0x205,
 		written: 0x22,
+		machine: side{tvec: 0x101, scratch: 0x102, epc: 0x104, cause: 0x80000003, tval: 0x105},
+		super:   side{tvec: 0x201, scratch: 0x202, epc: 0x204, cause: 0x80000005, tval: 0x205},
 	}
 	m.clock.Msip = 1
 	m.clock.Mtimecmp = 0x7001

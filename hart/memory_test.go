@@ -100,7 +100,7 @@ func TestLoadsBesideTheMemory(t *testing.T) {
 			for _, a := range beside(size, c.width) {
 				m := busy(t, size, 0, wordI(0x03, c.f3, 2, 1, 0))
 				m.regs[1] = a
-				fails(t, "P8: "+c.name, m)
+				traps(t, "P8: "+c.name, m, api.LoadFault, a)
 			}
 		}
 	}
@@ -165,7 +165,7 @@ func TestStoresBesideTheMemory(t *testing.T) {
 			for _, a := range beside(size, c.width) {
 				m := busy(t, size, 0, wordS(c.f3, 1, 2, 0))
 				m.regs[1] = a
-				fails(t, "P8: "+c.name, m)
+				traps(t, "P8: "+c.name, m, api.StoreFault, a)
 			}
 		}
 	}

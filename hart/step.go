@@ -8,6 +8,9 @@ import (
 
 // Step does one step (P6 to P16).
 func (m *Hart) Step() {
+	if !m.rouse() {
+		return
+	}
 	pc := m.pc
 	w, there := m.loadRam(pc, 4)
 	if !there {
@@ -19,12 +22,21 @@ func (m *Hart) Step() {
 		m.exception(api.Illegal, w)
 		return
 	}
-	m.do(d)
+	m.do(d, w)
 }
 
-// do carries out the instruction at pc. Those of P10 and P12 are not built yet:
-// they change nothing, and pc stays at them.
-func (m *Hart) do(d api.Instr) {
+// rouse wakes the processor, if it is asleep and there is something that mie
+// lets through, whether that is taken as an interrupt or not; it tells whether
+// the processor is awake now.
+func (m *Hart) rouse() bool {
+	if m.asleep && m.mip()&m.csr.mie != 0 {
+		m.asleep = false
+	}
+	return !m.asleep
+}
+
+// do carries out the instruction d at pc; w is its word.
+func (m *Hart) do(d api.Instr, w uint32) {
 	pc := m.pc
 	a := m.register(d.Rs1)
 	b := m.register(d.Rs2)
@@ -49,6 +61,8 @@ func (m *Hart) do(d api.Instr) {
 		m.result(d.Rd, reckon.Result(d.Op, a, b))
 	case api.Fence:
 		m.pc += 4
+	default:
+		m.system(d, w)
 	}
 }
 
@@ -143,7 +157,3 @@ func widen(op int, v uint32) uint32 {
 	}
 	return v
 }
-
-// exception ends a step whose instruction can't be done. P11 is not built yet:
-// nothing is changed.
-func (m *Hart) exception(cause int, tval uint32) {}

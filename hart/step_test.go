@@ -1,7 +1,6 @@
 package hart
 
 import (
-	"reflect"
 	"strings"
 	"testing"
 
@@ -85,21 +84,6 @@ func gives(t *testing.T, what string, m *Hart, rd, v uint32) {
 	steps(t, what, m, want)
 }
 
-// fails does one step of an instruction that can't be done: registers and
-// memory stay as they were, and it does not go on at the next one.
-func fails(t *testing.T, what string, m *Hart) {
-	t.Helper()
-	was := m.Look()
-	m.Step()
-	s := m.Look()
-	if !reflect.DeepEqual(s.Regs, was.Regs) || s.Ram != was.Ram {
-		t.Errorf("%s: the registers and the memory are\n%x %q, want\n%x %q", what, s.Regs, s.Ram, was.Regs, was.Ram)
-	}
-	if s.Pc == was.Pc+4 {
-		t.Errorf("%s: pc went on from %#x to %#x", what, was.Pc, s.Pc)
-	}
-}
-
 func TestExampleOfSteps(t *testing.T) {
 	ram := image(0x00500093, 0x00108133, 0x402000B3, 0x0000006F)
 	m := must(t, 16, ram)
@@ -117,7 +101,7 @@ func TestExampleOfSteps(t *testing.T) {
 	}
 }
 
-// The other example without an exception: a load of the instruction itself.
+// The other example of a load: that of the instruction itself.
 func TestExampleOfLoad(t *testing.T) {
 	m := must(t, 8, image(0x0000A103))
 	gives(t, "P8: the example", m, 2, 0x0000A103)
@@ -154,25 +138,24 @@ func TestLastWord(t *testing.T) {
 	steps(t, "P6: Sw", m, want)
 }
 
-// P6: where there is no whole word at pc, nothing is fetched, and so no
-// register and no byte of the memory changes.
+// P6: where there is no whole word at pc, nothing is fetched.
 func TestFetchBesideTheMemory(t *testing.T) {
 	for _, size := range []int{4, 8, 512} {
 		for _, pc := range []uint32{uint32(size), uint32(size) + 4, 0x1000, 0x2034, 0x7FFFFFFC, 0x80000000, 0xFFFFFFFC} {
 			m := busy(t, size, 0, addi(1, 1, 1))
 			m.pc = pc
-			fails(t, "P6: beside the memory", m)
+			traps(t, "P6: beside the memory", m, api.FetchFault, pc)
 		}
 	}
 	m := must(t, 4, image(addi(1, 1, 1)))
 	gives(t, "P6: in a memory of one word", m, 1, 1)
-	fails(t, "P6: behind a memory of one word", m)
+	traps(t, "P6: behind a memory of one word", m, api.FetchFault, 4)
 }
 
 // P6: a word that is no instruction does none.
 func TestNoInstruction(t *testing.T) {
 	for _, w := range []uint32{0, none, 0x60315093, 0x0000100F, 0x00002067, 0x02001013, 0x00003003, 0x00003023, 0x00002063, 0x02000033, 0x20000033} {
-		fails(t, "P6: no instruction", busy(t, 64, 8, w))
+		traps(t, "P6: no instruction", busy(t, 64, 8, w), api.Illegal, w)
 	}
 }
 
