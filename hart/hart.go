@@ -64,13 +64,41 @@ func fresh(l []uint32) []uint32 {
 }
 
 // Read reads from outside: width bytes at address a (P13).
-func (m *Hart) Read(a uint32, width int) (uint32, bool) { return 0, false }
+func (m *Hart) Read(a uint32, width int) (uint32, bool) {
+	v, there := m.loadRam(a, width)
+	if there {
+		return v, true
+	}
+	if width != 4 {
+		return 0, false
+	}
+	v, there = m.clock.Read(a)
+	if there {
+		return v, true
+	}
+	return m.lines.Read(a)
+}
 
 // Write writes from outside: the low width bytes of v to address a (P13).
-func (m *Hart) Write(a uint32, width int, v uint32) bool { return false }
+func (m *Hart) Write(a uint32, width int, v uint32) bool {
+	if m.storeRam(a, width, v) {
+		return true
+	}
+	if width != 4 {
+		return false
+	}
+	if m.clock.Write(a, v) {
+		return true
+	}
+	return m.lines.Write(a, v)
+}
 
 // Line turns line s high or low (P14).
-func (m *Hart) Line(s int, high bool) {}
+func (m *Hart) Line(s int, high bool) {
+	m.lines.Line(s, high)
+}
 
 // Tick lets one tick of the clock pass (P14).
-func (m *Hart) Tick() {}
+func (m *Hart) Tick() {
+	m.clock.Tick()
+}

@@ -118,7 +118,7 @@ func (m *Hart) goTo(target uint32) bool {
 
 // load reads for the instruction d from address a.
 func (m *Hart) load(d api.Instr, a uint32) {
-	v, there := m.loadRam(a, width(d.Op))
+	v, there := m.Read(a, width(d.Op))
 	if !there {
 		m.exception(api.LoadFault, a)
 		return
@@ -128,7 +128,7 @@ func (m *Hart) load(d api.Instr, a uint32) {
 
 // store writes v for the instruction op to address a.
 func (m *Hart) store(op int, a, v uint32) {
-	if !m.storeRam(a, width(op), v) {
+	if !m.Write(a, width(op), v) {
 		m.exception(api.StoreFault, a)
 		return
 	}
