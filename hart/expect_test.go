@@ -43,10 +43,16 @@ func put(want *api.State, n, v uint32) {
 
 // trapped makes of want what P11 says of an exception.
 func trapped(want *api.State, cause, tval uint32) {
+	entered(want, want.Mode != api.Machine && has(want.Csrs[9], int(cause)), cause, tval)
+}
+
+// entered makes of want what P11 says of an exception that goes to Supervisor,
+// or else to Machine.
+func entered(want *api.State, super bool, cause, tval uint32) {
 	status := want.Csrs[8]
 	level := want.Mode
 	base := uint32(0x300)
-	if level != api.Machine && has(want.Csrs[9], int(cause)) {
+	if super {
 		base = 0x100
 		status = with(status, 5, has(status, 1))
 		status = with(status, 1, false)

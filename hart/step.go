@@ -11,6 +11,14 @@ func (m *Hart) Step() {
 	if !m.rouse() {
 		return
 	}
+	if m.interrupt() {
+		return
+	}
+	m.next()
+}
+
+// next fetches the instruction at pc and does it.
+func (m *Hart) next() {
 	pc := m.pc
 	w, there := m.loadRam(pc, 4)
 	if !there {
